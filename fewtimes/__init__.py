@@ -1,0 +1,1 @@
+"""Fewtimes: products of tables and rows of numbers with fewer multiplyings."""
