@@ -79,6 +79,11 @@ def filled(part):
     return [(at, x) for at, x in enumerate(part) if x != 0]
 
 
+def has_noughts(product):
+    """Whether a part of the product is of noughts, so that it tells nothing."""
+    return not all([any(part) for part in product])
+
+
 def rows_by_pairs(scheme):
     """For each (i, j) that some product has, the row told of a single 1 at i and at j."""
     left, right, many, products = scheme

@@ -47,3 +47,10 @@ def numbers(many, seed, bound):
         state = (state * 6364136223846793005 + 1442695040888963407) % 2 ** 64
         row.append((state >> 20) % (2 * bound + 1) - bound)
     return row
+
+
+def scheme_of(left, right, many, count, seed, bound):
+    """A scheme of so many products, of numbers from -bound to bound."""
+    parts = [tuple(numbers(length, seed + 3 * at + side, bound))
+             for at in range(count) for side, length in enumerate((left, right, many))]
+    return (left, right, many, [tuple(parts[at:at + 3]) for at in range(0, len(parts), 3)])

@@ -2,7 +2,7 @@
 
 import unittest
 
-from asking import asked, numbers
+from asking import asked, numbers, scheme_of
 from fewtimes.schemes import applied, does, fails_at, is_scheme, sums_in, task_by, times_in
 from fewtimes.tasks import line_task, ring_task, table_task, task_of, value_of
 
@@ -21,13 +21,6 @@ SEVEN = (4, 4, 4, [((1, 0, 0, 1), (1, 0, 0, 1), (1, 0, 0, 1)),
                    ((0, 1, 0, -1), (0, 0, 1, 1), (1, 0, 0, 0))])
 
 ONE = ((1,), (1,), (1,))
-
-
-def scheme_of(left, right, many, count, seed, bound):
-    """A scheme of so many products, of numbers from -bound to bound."""
-    parts = [tuple(numbers(length, seed + 3 * at + side, bound))
-             for at in range(count) for side, length in enumerate((left, right, many))]
-    return (left, right, many, [tuple(parts[at:at + 3]) for at in range(0, len(parts), 3)])
 
 
 def reckoned(scheme, one, other):
