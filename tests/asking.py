@@ -40,6 +40,19 @@ def asked(case, function, *handed):
     return third
 
 
+def refused(case, error, function, *handed):
+    """The refusal of a question, asked twice: of that very class, with nothing that was handed in changed."""
+    kept, told = copy.deepcopy(handed), []
+    for _ in range(2):
+        with case.assertRaises(error) as caught:
+            function(*handed)
+        case.assertIs(error, type(caught.exception))
+        case.assertEqual(kept, handed, "what was handed in was changed")
+        told.append(caught.exception)
+    case.assertEqual(vars(told[0]), vars(told[1]), "the same question was refused otherwise")
+    return told[1]
+
+
 def numbers(many, seed, bound):
     """So many numbers from -bound to bound, the same ones each time."""
     row, state = [], seed

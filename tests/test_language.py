@@ -21,6 +21,28 @@ OWN = ("len range enumerate zip min max sum abs sorted reversed int str bool byt
        "StopIteration").split()
 
 
+WALKED = ("zip", "enumerate", "reversed", "range", "items", "keys", "values")
+WALKERS = ("list", "tuple", "dict", "sorted", "sum", "any", "all", "enumerate", "zip", "min", "max", "reversed")
+
+
+def called(node):
+    """The name or the method that a node calls, if it calls one."""
+    if not isinstance(node, ast.Call):
+        return None
+    return node.func.id if isinstance(node.func, ast.Name) else node.func.attr
+
+
+def walked_at_once(tree):
+    """The nodes that are walked on the spot."""
+    nodes = []
+    for node in ast.walk(tree):
+        if isinstance(node, (ast.For, ast.comprehension)):
+            nodes.append(node.iter)
+        if called(node) in WALKERS:
+            nodes += node.args
+    return nodes
+
+
 def given_names(tree):
     """All names that a file gives somewhere."""
     names = set()
@@ -83,6 +105,32 @@ class Language(unittest.TestCase):
                 self.assertNotIn("%", node.value, (name, node.lineno))
             if isinstance(node, ast.FormattedValue):
                 self.assertIsNone(node.format_spec, (name, node.lineno))
+
+    def test_walked_at_once(self):
+        for name, tree in self.trees.items():
+            at_once = walked_at_once(tree)
+            for node in ast.walk(tree):
+                if called(node) in WALKED:
+                    self.assertTrue(any(node is walked for walked in at_once), (name, node.lineno))
+
+    def test_operators(self):
+        for name, node in self.nodes():
+            if isinstance(node, ast.BinOp) and isinstance(node.op, ast.Pow):
+                self.assertIsInstance(node.right, ast.Constant, (name, node.lineno))
+            if isinstance(node, ast.Compare) and any(isinstance(op, (ast.Is, ast.IsNot)) for op in node.ops):
+                self.assertIsInstance(node.comparators[0], ast.Constant, (name, node.lineno))
+
+    def test_drawn_names_are_not_given_anew(self):
+        for name, tree in self.trees.items():
+            drawn = [alias.name for node in ast.walk(tree) if isinstance(node, ast.ImportFrom) for alias in node.names]
+            self.assertEqual(len(drawn), len(set(drawn)), name)
+            given = {node.id for node in ast.walk(tree)
+                     if isinstance(node, ast.Name) and not isinstance(node.ctx, ast.Load)}
+            given |= {node.arg for node in ast.walk(tree) if isinstance(node, ast.arg)}
+            given |= {node.name for node in ast.walk(tree) if isinstance(node, (ast.FunctionDef, ast.ClassDef))}
+            self.assertEqual(set(), given & set(drawn), name)
+            read = {node.id for node in ast.walk(tree) if isinstance(node, ast.Name)}
+            self.assertEqual(set(), set(drawn) - read, name)
 
     def test_names(self):
         builtin = set(dir(__builtins__)) if not isinstance(__builtins__, dict) else set(__builtins__)
