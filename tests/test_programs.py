@@ -67,7 +67,7 @@ def written(scheme, order):
 def sparse_scheme(left, right, many, count, seed):
     """A scheme of which many numbers, and some whole parts, are 0."""
     scheme = scheme_of(left, right, many, count, seed, 4)
-    thin = [tuple(tuple(x if abs(x) > 1 and x % 2 else 0 for x in part) for part in product) for product in scheme[3]]
+    thin = [tuple(tuple(x if x % 2 else 0 for x in part) for part in product) for product in scheme[3]]
     return (left, right, many, thin)
 
 
@@ -232,6 +232,13 @@ class BestOrder(unittest.TestCase):
                 self.best(scheme)
         for seed in range(30):
             self.best(sparse_scheme(2, 2, 5, 5, 1000 + 17 * seed))
+
+    def test_schemes_whose_told_numbers_lie_apart(self):
+        orders = []
+        for seed in range(20):
+            outs = [tuple(x if abs(x) == 3 else 0 for x in numbers(7, 90 * seed + at, 4)) for at in range(6)]
+            orders.append(self.best((1, 1, 7, [((1,), (at + 1,), o) for at, o in enumerate(outs)])))
+        self.assertGreater(len([order for room, order in orders if order != [0, 1, 2, 3, 4, 5]]), 5)
 
     def test_seven_products(self):
         self.best(seven())
