@@ -8,9 +8,7 @@ MOST_SETS = 3000
 
 
 def many_sets(many, e):
-    """How many sets of e unlike things of so many there are."""
-    if e < 0 or e > many:
-        return 0
+    """How many sets of e unlike things of so many there are, e from 0 to many."""
     count = 1
     for at in range(min(e, many - e)):
         count = count * (many - at) // (at + 1)

@@ -81,9 +81,12 @@ def tidied(scheme):
 
 def flips(scheme):
     """All flips of two products with one and the same part, rising."""
-    products = scheme[3]
-    return [(r, s, side) for r, one in enumerate(products) for s, other in enumerate(products) for side in range(3)
-            if r != s and one[side] == other[side]]
+    # By their parts, since of all two products of a long scheme only few have one in common.
+    alike = {}
+    for at, product in enumerate(scheme[3]):
+        for side, part in enumerate(product):
+            alike.setdefault((side, part), []).append(at)
+    return sorted([(r, s, side) for (side, part), numbers in alike.items() for r in numbers for s in numbers if r != s])
 
 
 def is_flip(products, flip):

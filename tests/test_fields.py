@@ -8,20 +8,12 @@ from fewtimes.fields import does_over, pairs_over, span_of
 from fewtimes.known import by_pairs, plain
 from fewtimes.schemes import does, task_by
 from fewtimes.tasks import line_task, ring_task, table_task, task_of
+from over import own_tables, task_with
 
 # Lengths within the bounds, also those at them.
 LENGTHS = [(1, 1), (1, 2), (2, 1), (2, 2), (1, 6), (6, 1), (2, 3), (3, 2), (3, 3)]
 LENGTHS_OVER = [(left, right, p) for left, right in LENGTHS for p in (2, 3)] + \
                [(2, 4, 3), (4, 2, 3), (2, 6, 2), (6, 2, 2), (3, 4, 2), (4, 3, 2), (2, 5, 2)]
-
-
-def tables(task, p):
-    """The task's tables, as tuples."""
-    left, right, many, terms = task
-    made = [[0] * (left * right) for _ in range(many)]
-    for k, i, j, c in terms:
-        made[k][i * right + j] = c % p
-    return [tuple(row) for row in made]
 
 
 def is_independent(rows, p):
@@ -34,15 +26,9 @@ def is_independent(rows, p):
 
 def span_by_words(task, p):
     """How many tables can be chosen at most: all choices are tried."""
-    rows = tables(task, p)
+    rows = own_tables(task, p)
     return max(many for many in range(len(rows) + 1)
                if any(is_independent(chosen, p) for chosen in itertools.combinations(rows, many)))
-
-
-def task_with(left, right, *rows):
-    """The task that has these tables."""
-    terms = [(k, at // right, at % right, c) for k, row in enumerate(rows) for at, c in enumerate(row)]
-    return task_of(left, right, len(rows), terms)
 
 
 class DoesOver(unittest.TestCase):

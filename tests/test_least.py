@@ -4,42 +4,14 @@ import itertools
 import math
 import unittest
 
-from asking import asked, numbers
+from asking import asked
 from fewtimes.fields import does_over, pairs_over, span_of
 from fewtimes.known import plain
 from fewtimes.least import least_over, least_paper
 from fewtimes.schemes import is_scheme
 from fewtimes.tasks import line_task, ring_task, table_task, task_of
 from fewtimes.turning import task_mirrored, task_turned
-
-
-def pair_tables(left, right, p):
-    """The tables of all pairs, by places."""
-    return [tuple(x * y % p for x in l for y in r) for l, r in pairs_over(left, right, p)]
-
-
-def own_tables(task, p):
-    """The task's tables, by places."""
-    left, right, many, terms = task
-    made = [[0] * (left * right) for _ in range(many)]
-    for k, i, j, c in terms:
-        made[k][i * right + j] = c % p
-    return [tuple(row) for row in made]
-
-
-def with_sums(sums, row, p):
-    """The sums of multiples with those of one row more."""
-    if row in sums:
-        return sums
-    return {tuple((x + c * y) % p for x, y in zip(old, row)) for old in sums for c in range(p)}
-
-
-def all_sums(rows, length, p):
-    """All sums of multiples of the rows."""
-    sums = {(0,) * length}
-    for row in rows:
-        sums = with_sums(sums, row, p)
-    return sums
+from over import all_sums, own_tables, pair_tables, some_task, task_with
 
 
 def least_by_all_sets(task, p):
@@ -57,17 +29,6 @@ def is_filled_by_pairs(task, p, chosen):
     tables, length = pair_tables(*task[:2], p), task[0] * task[1]
     sums = all_sums(own_tables(task, p) + [tables[at] for at in chosen], length, p)
     return all_sums([table for table in tables if table in sums], length, p) == sums
-
-
-def task_with(left, right, *rows):
-    """The task that has these tables."""
-    terms = [(k, at // right, at % right, c) for k, row in enumerate(rows) for at, c in enumerate(row)]
-    return task_of(left, right, len(rows), terms)
-
-
-def some_task(left, right, many, seed, bound):
-    """A task of any numbers."""
-    return task_with(left, right, *[numbers(left * right, 100 * seed + k, bound) for k in range(many)])
 
 
 SMALL = [some_task(*[(2, 2), (1, 3), (2, 1), (2, 3), (3, 2), (1, 1)][seed % 6], 1 + seed // 6 % 3, seed, 10 + seed)
